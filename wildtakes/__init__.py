@@ -1,0 +1,1 @@
+"""Programs that send and take, and which takes meet which sends."""
