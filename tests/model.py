@@ -126,3 +126,77 @@ class Model:
              tuple(sorted(take["met"] for take in self.takes if take["taker"] == hand and take["met"])),
              len(self.rows[hand]) + (self.wait[hand] is not None))
             for hand in self.hands)
+
+    def waits(self):
+        """What each hand waits for, once the model is stuck."""
+        found = []
+        for hand in self.hands:
+            word, for_what = self.wait[hand] or (None, None)
+            if word == "send":
+                found.append((hand, word, (for_what["to"],)))
+            elif word == "all":
+                found.append((hand, word, tuple(other for other in self.hands
+                                                if self.wait[other] and self.wait[other][0] != "all")))
+            elif word and for_what["whence"] is None:
+                found.append((hand, word, tuple(other for other in self.hands if other != hand)))
+            elif word:
+                found.append((hand, word, (for_what["whence"],)))
+        return found
+
+    def is_wild(self, taker, number):
+        [take] = [take for take in self.takes if (take["taker"], take["number"]) == (taker, number)]
+        return take["whence"] is None
+
+    def twin(self):
+        """Another model that stands just so."""
+        other = Model(self.rows, self.room)
+        copies = {id(one): dict(one) for one in self.things + self.takes}
+        other.wait = [wait and (wait[0], copies.get(id(wait[1]))) for wait in self.wait]
+        other.box = [dict(box) for box in self.box]
+        other.said = [list(said) for said in self.said]
+        other.things = [copies[id(thing)] for thing in self.things]
+        other.takes = [copies[id(take)] for take in self.takes]
+        return other
+
+    def key(self):
+        """A text that two models share just if they stand the same, by whatever order they came to it."""
+        things = sorted((thing["from"], thing["number"], str(thing)) for thing in self.things)
+        takes = sorted((take["taker"], take["number"], str(take)) for take in self.takes)
+        waits = [wait and (wait[0], wait[1] and wait[1]["number"]) for wait in self.wait]
+        return str((self.rows, waits, [sorted(box.items()) for box in self.box], self.said, things, takes))
+
+
+def every_order(program, room, most=10 ** 9):
+    """All that orders of events come to, each event at each standing tried: a dict from ends to their states, and
+    the meetings that were on the way. None if there are more standings than that."""
+    ends, meetings, seen = {}, set(), set()
+    pending = [Model(program, room)]
+    while pending:
+        model = pending.pop()
+        if model.key() in seen:
+            continue
+        seen.add(model.key())
+        if len(seen) > most:
+            return None
+        events = model.events()
+        if not events:
+            ends[model.end()] = model.state()
+        for event in events:
+            if event[0] == "meet":
+                meetings.add(event[1:])
+            other = model.twin()
+            other.do(event)
+            pending.append(other)
+    return ends, meetings
+
+
+def played(program, meetings, room, order):
+    """The end of a model in which wild takes meet only as is listed."""
+    model = Model(program, room)
+    numbers = list(order)
+    while True:
+        events = [event for event in model.events()
+                  if event[0] == "go" or not model.is_wild(*event[3:]) or event[1:] in meetings]
+        if not events:
+            return model.end()
+        model.do(events[(numbers.pop(0) if numbers else 0) % len(events)])

@@ -76,6 +76,48 @@ def random_program(seed, wild):
     return tuple(tuple(script) for script in scripts)
 
 
+def random_wild_take(chance, taker, hands, box):
+    """A take or a post, mostly a wild one."""
+    others = [other for other in range(hands) if other != taker]
+    whence = None if chance.random() < 0.8 else chance.choice(others)
+    mark = chance.choice((0, 0, 1, None, None))
+    if chance.random() < 0.6:
+        return ("take", whence, mark, box)
+    return ("post", chance.choice("pq"), whence, mark, box)
+
+
+def random_answer(chance, taker, hands, box):
+    """A row behind a wild take that goes by what it met, or lets others go on."""
+    others = [other for other in range(hands) if other != taker]
+    branches = [
+        (random_wild_take(chance, taker, hands, "z"),), (("send", chance.choice(others), 1, box),), (("tell", box),), (),
+    ]
+    return chance.choice((
+        ("case", box, chance.choice((1, 2, 3)), chance.choice(branches), chance.choice(branches)),
+        ("send", chance.choice(others), 1, box), ("tell", box), ("wait", "p"), ("wait", "q"), ("all",),
+    ))
+
+
+def random_wild_program(seed):
+    """A program at random in which several hands send to one or two that take mostly wildly."""
+    chance = random.Random(seed)
+    hands = chance.choice((3, 3, 4, 5))
+    takers = chance.sample(range(hands), chance.choice((1, 1, 2)))
+    scripts = [[] for hand in range(hands)]
+    for turn in range(chance.choice((2, 3, 4))):
+        taker, box = chance.choice(takers), chance.choice("xy")
+        scripts[taker].append(random_wild_take(chance, taker, hands, box))
+        if chance.random() < 0.5:
+            scripts[taker].append(random_answer(chance, taker, hands, box))
+    for turn in range(chance.choice((3, 4, 5))):
+        taker = chance.choice(takers)
+        sender = chance.choice([hand for hand in range(hands) if hand != taker])
+        scripts[sender].append(("send", taker, chance.choice((0, 0, 1)), chance.choice((1, 2, 3, "x"))))
+        if chance.random() < 0.3:
+            scripts[sender].append(chance.choice((("take", taker, 1, "x"), ("all",), ("tell", "x"))))
+    return tuple(tuple(script) for script in scripts)
+
+
 def run_through(program, room, choose):
     """A run that has ended, each event chosen out of the list of them."""
     run = Run(program, room=room)

@@ -1,10 +1,16 @@
+import copy
+import inspect
 import random
 import unittest
 
-from tests.samples import ROOMS, do_all, random_program, run_through
+from tests.samples import ROOMS, do_all, random_program, random_wild_program, run_through
+from wildtakes.ends import can_stick, ends, partners
 from wildtakes.errors import BadProgram, BadRoom, NoEvent, TakeError
 from wildtakes.programs import is_program, program_text, read_program, wild_takes
+from wildtakes.replays import play, told_meetings
+from wildtakes.rooms import room_needed
 from wildtakes.runs import Run
+from wildtakes.sticking import ring, waits
 
 PROGRAM = (
     (("add", "b", 1, 1), ("add", "a", 3, 4), ("tell", "a"), ("send", 1, 0, "a"), ("send", 1, 1, 5), ("tell", 8)),
@@ -78,6 +84,48 @@ class NewOnes(unittest.TestCase):
         self.assertEqual(other.events(), [("go", 0), ("go", 1)])
 
 
+class Interface(unittest.TestCase):
+    def test_names_arguments_and_defaults(self):
+        for thing, arguments in (
+            (is_program, "(thing)"), (wild_takes, "(program)"), (program_text, "(program)"), (read_program, "(text)"),
+            (Run, "(program, *, room=0)"), (Run.events, "(self)"), (Run.do, "(self, event)"), (Run.state, "(self)"),
+            (Run.end, "(self)"), (Run.boxes, "(self, hand)"), (Run.told, "(self, hand)"), (Run.open_takes, "(self, hand)"),
+            (Run.on_way, "(self, sender, taker)"), (Run.twin, "(self)"),
+            (ends, "(program, *, room=0)"), (partners, "(program, *, room=0)"), (can_stick, "(program, *, room=0)"),
+            (waits, "(run)"), (ring, "(run)"), (room_needed, "(program)"), (told_meetings, "(end)"),
+            (play, "(program, meetings, *, room=0, order=())"),
+        ):
+            self.assertEqual(str(inspect.signature(thing)), arguments, thing)
+
+
+class WhatIsHandedIn(unittest.TestCase):
+    def test_nothing_of_it_is_changed(self):
+        for seed in range(60):
+            program = random_wild_program(seed)
+            order, meetings = (3, 1, 2), told_meetings(ends(program, room=1)[-1]) + [(9, 9, 9, 9)]
+            before = copy.deepcopy((program, order, meetings))
+            found = ends(program, room=1)
+            partners(program, room=1)
+            can_stick(program, room=1)
+            play(program, meetings, room=1, order=order)
+            self.assertEqual((program, order, meetings), before)
+            for end in found:
+                kept = copy.deepcopy(end)
+                told_meetings(end).append(None)
+                self.assertEqual(end, kept)
+
+    def test_nothing_is_kept(self):
+        program = read_program("send 2 0 5\nsend 2 0 6\ntake any 0 x; tell x\n")
+        for ask in (lambda: ends(program), lambda: partners(program), lambda: told_meetings(ends(program)[0]),
+                    lambda: list(play(program, [(1, 0, 2, 0)])), lambda: waits(run_through(program, 0, lambda events: events[0]))):
+            told, again = ask(), ask()
+            self.assertIsNot(told, again)
+            told.clear()
+            self.assertEqual(ask(), again)
+        for pair in partners(program):
+            self.assertIsNot(partners(program)[pair], partners(program)[pair])
+
+
 class Twins(unittest.TestCase):
     def test_a_twin_stands_just_so(self):
         run = run_halfway()
@@ -149,6 +197,30 @@ class Orders(unittest.TestCase):
             freed += len(set(states)) - 1
         self.assertGreater(freed, 20)
 
+    def test_the_one_end_is_told_alone(self):
+        for seed, program in enumerate(self.programs()[:150]):
+            chance = random.Random(seed)
+            for room in ROOMS:
+                end = run_through(program, room, chance.choice).end()
+                self.assertEqual(ends(program, room=room), [end])
+                self.assertEqual(play(program, [], room=room, order=(seed, 3, 1, 2)), end)
+
+    def test_with_more_room_none_can_stick_that_could_not(self):
+        for program in self.programs()[:150]:
+            sticks = [can_stick(program, room=room) for room in ROOMS]
+            self.assertEqual(sticks, sorted(sticks, reverse=True))
+            self.assertEqual(room_needed(program) is None, sticks[-1])
+
+    def test_what_is_stuck_has_no_end_but_this(self):
+        for seed in range(200):
+            program = random_wild_program(seed)
+            chance = random.Random(seed)
+            for room in ROOMS:
+                run = run_through(program, room, chance.choice)
+                self.assertIn(run.end(), ends(program, room=room))
+                if run.state() == "stuck":
+                    self.assertEqual((run.events(), can_stick(program, room=room)), ([], True))
+
     def test_wild_takes_may_come_to_several_ends(self):
         program = ((("send", 2, 0, 5),), (("send", 2, 0, 6),), (("take", None, 0, "x"),))
         first = run_through(program, 1, lambda events: events[0]).end()
@@ -180,7 +252,10 @@ class Refusals(unittest.TestCase):
     def test_each_is_a_take_error(self):
         for refused in (lambda: Run(None), lambda: Run(PROGRAM, room=-1), lambda: Run(PROGRAM).end(),
                         lambda: Run(PROGRAM).do(None), lambda: read_program(None), lambda: program_text(None),
-                        lambda: wild_takes(None)):
+                        lambda: wild_takes(None), lambda: ends(None), lambda: partners(PROGRAM, room=-1),
+                        lambda: can_stick(((("take", None, 0, "x"),) * 7, ())), lambda: waits(Run(PROGRAM)),
+                        lambda: ring(Run(PROGRAM)), lambda: room_needed(((("take", None, 0, "x"),), ())),
+                        lambda: play(PROGRAM, None), lambda: play(PROGRAM, [], order=None)):
             with self.assertRaises(TakeError):
                 refused()
 

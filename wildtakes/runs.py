@@ -61,6 +61,15 @@ class Run:
             meets.extend(self.meets_on(sender, taker))
         return goes + sorted(meets)
 
+    def events_within(self, listed):
+        """The events that can come if wild takes meet only as is listed, in a dict of meetings."""
+        return [event for event in self.events()
+                if event[0] == "go" or event[1:] in listed or not self.is_open_to_any(event[3], event[4])]
+
+    def is_open_to_any(self, taker, take):
+        """Whether an open take is wild."""
+        return self.hands[taker].posted[take][0] is None
+
     def meets_on(self, sender, taker):
         """The meetings that can be of things on one way.
 
@@ -80,6 +89,10 @@ class Run:
         """Does one of the events."""
         if not isinstance(event, tuple) or has_truth(event) or event not in self.events():
             raise NoEvent("this is none of the events")
+        self.carry_out(event)
+
+    def carry_out(self, event):
+        """Does what is known to be one of the events."""
         if event[0] == "go":
             self.step(event[1])
         else:
@@ -138,6 +151,10 @@ class Run:
         """The end to which the run came."""
         if self.state() == "going":
             raise NotEnded("the run can go on")
+        return self.result()
+
+    def result(self):
+        """What its end would be, if nothing more came."""
         return tuple([hand.result() for hand in self.hands])
 
     def boxes(self, hand):
