@@ -11,8 +11,11 @@ from wildtakes.replays import play, told_meetings
 PROGRAM = read_program("take any 0 x; take 1 1 y; take any any z\nsend 0 0 5; send 0 1 6; send 0 0 7\nsend 0 0 8\n")
 
 # No run of any program has these.
-NEVER = [(0, 0, 0, 0), (9, 9, 9, 9), (0, 99, 1, 0), (1, 0, 0, 99), (-1, 0, 1, 0), (0, -1, 1, 0), (0, 0, -1, 0),
-         (0, 0, 1, -1), (10 ** 14, 0, 1, 0)]
+NEVER = [(0, 0, 0, 0), (9, 9, 9, 9), (0, 99, 1, 0), (1, 0, 0, 99), (9, 0, 1, 0), (0, 0, 9, 0), (10 ** 14, 0, 1, 0),
+         (0, 10 ** 14, 1, 0), (0, 0, 10 ** 14, 0), (0, 0, 1, 10 ** 14)]
+
+BELOW_0 = [(-1, 0, 1, 0), (0, -1, 1, 0), (0, 0, -1, 0), (0, 0, 1, -1), (-10 ** 14, 0, 1, 0), (0, -10 ** 14, 1, 0),
+           (0, 0, -10 ** 14, 0), (0, 0, 1, -10 ** 14), (-1, -1, -1, -1), (9, 9, 9, -9)]
 
 NO_MEETINGS = (
     None, True, False, 0, 1, "", "ab", (), ((1, 0, 0, 0),), {}, {(1, 0, 0, 0): True}, [None], [True], [0], ["abcd"], [[]],
@@ -204,6 +207,17 @@ class Refusals(unittest.TestCase):
         for meetings in NO_MEETINGS:
             with self.assertRaises(BadMeetings, msg=repr(meetings)):
                 play(PROGRAM, meetings)
+
+    def test_meetings_with_a_number_below_0(self):
+        for meeting in BELOW_0:
+            for meetings in ([meeting], [(2, 0, 0, 0), meeting], [meeting, (2, 0, 0, 0)]):
+                for room, order in ((0, ()), (None, ()), (-1, ()), ("x", ()), (0, (-1,)), (0, None), (100, [])):
+                    with self.assertRaises(BadMeetings, msg=repr(meetings)):
+                        play(PROGRAM, meetings, room=room, order=order)
+                with self.assertRaises(BadMeetings, msg=repr(meetings)):
+                    play(((), ()), meetings)
+                with self.assertRaises(BadProgram, msg=repr(meetings)):
+                    play(((),), meetings)
 
     def test_meetings_that_can_not_be_are_not_refused(self):
         for meeting in NEVER:

@@ -7,20 +7,25 @@ from wildtakes.runs import Run, check_room
 MEETING_LENGTH = 4
 
 
+def is_from_0(thing):
+    """Whether it is a whole number from 0 on, as hands, sends, takes and places are numbered."""
+    return is_whole(thing) and thing >= 0
+
+
 def is_meeting(thing):
     """Whether it has the form of a meeting, also of one that can't be."""
-    return isinstance(thing, tuple) and len(thing) == MEETING_LENGTH and all([is_whole(part) for part in thing])
+    return isinstance(thing, tuple) and len(thing) == MEETING_LENGTH and all([is_from_0(part) for part in thing])
 
 
 def check_meetings(thing):
     """Refuses what is no list of meetings."""
     if not isinstance(thing, list) or not all([is_meeting(part) for part in thing]):
-        raise BadMeetings("meetings are a list of tuples of four whole numbers")
+        raise BadMeetings("meetings are a list of tuples of four whole numbers from 0 on")
 
 
 def check_order(thing):
     """Refuses what is no order."""
-    if not isinstance(thing, tuple) or not all([is_whole(part) and part >= 0 for part in thing]):
+    if not isinstance(thing, tuple) or not all([is_from_0(part) for part in thing]):
         raise BadOrder("an order is a tuple of whole numbers from 0 on")
 
 
